@@ -1,0 +1,1 @@
+"""Windpoints: points of going on, with winders."""
