@@ -41,19 +41,32 @@ class Pair:
 
 
 class Fun:
-    """A function with the environment in which it was made."""
+    """A function: the Place of its fun or rec, and the environment in which it was made."""
+
+    def __init__(self, place=None, env=None):
+        self.place = place
+        self.env = env
 
 
 class Cell:
-    """A cell of a run; without an own ==, so that it is == to itself alone."""
+    """A cell of a run and the worth that it holds now; without an own ==, so that it is == to itself alone."""
+
+    def __init__(self, held=None):
+        self.held = held
 
 
 class Point:
-    """What was still to do, caught whole."""
+    """What was still to do, caught whole; how that is held is each machine's own."""
+
+    def __init__(self, held=None):
+        self.held = held
 
 
 class Part:
-    """What was still to do, caught up to a mark."""
+    """What was still to do, caught up to a mark; how that is held is each machine's own."""
+
+    def __init__(self, held=None):
+        self.held = held
 
 
 def is_whole(thing):
