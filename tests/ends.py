@@ -4,13 +4,28 @@ import unittest
 
 from tests.reading import term
 from windpoints.heap import HeapRun
+from windpoints.lesser import run_turned
+from windpoints.pile import PileRun
 from windpoints.plain import run
+from windpoints.terms import paths
+from windpoints.turning import turned
 from windpoints.worths import shown
+
+
+
+def pile_with_moves(whole, given):
+    return PileRun(whole, given, moves=True)
+
 
 # How a run that goes on by pieces is made.
 MAKERS = {
     "heap": HeapRun,
+    "pile": PileRun,
+    "pile with moves": pile_with_moves,
 }
+# Terms with more places are not turned, and runs of more steps may be too long when they are.
+MOST_PLACES = 100
+MOST_STEPS = 400
 
 
 def winds_text(winds):
@@ -64,6 +79,15 @@ class Ends(unittest.TestCase):
             with self.subTest(machine=name):
                 self.assertEqual(gone_on(maker(whole, given), [20000]), end)
                 self.assertEqual(gone_on(maker(whole, given), [1] * (end[4] + 2)), end)
+        if len(paths(whole)) <= MOST_PLACES and end[4] <= MOST_STEPS:
+            self.assert_turned(whole, given, end)
+
+    def assert_turned(self, whole, given, end):
+        """Check that the turned text tells an end, and that its frames are few."""
+        result = run_turned(turned(whole), given)
+        self.assertEqual(told(result)[:4], end[:4])
+        self.assertLessEqual(result.height, 8)
+        return result
 
     def assert_stops(self, text, given=None):
         """Check each stop on the way: most, and pieces of many sizes on every machine."""

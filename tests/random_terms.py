@@ -12,8 +12,9 @@ OPS = {
 class Maker:
     """Makes one term; what the names in scope will have is guessed, so that most terms do something."""
 
-    def __init__(self, seed):
+    def __init__(self, seed, parts):
         self.chance = random.Random(seed)
+        self.parts = parts
         self.many = 0
 
     def new_name(self):
@@ -108,7 +109,7 @@ class Maker:
     def catch(self, deep, scope):
         name = self.new_name()
         body = self.term(deep, {**scope, name: "point"})
-        return ("catch", name, self.kept(name, scope, body))
+        return ("catch", name, body if self.chance.random() < 0.4 else self.kept(name, scope, body))
 
     def kept(self, name, scope, body):
         """A body that first puts what a name has into a cell, often."""
@@ -118,6 +119,7 @@ class Maker:
         return body
 
     def go(self, deep, scope):
+        """Go to what a name has, or to what a cell holds."""
         if "point" not in scope.values() and self.chance.random() < 0.95:
             return self.catch(deep, scope)
         return ("go", self.named(scope, "point", lambda: self.get(deep, scope)), self.term(deep, scope))
@@ -126,6 +128,8 @@ class Maker:
         return ("mark", self.chance.choice(TAGS), self.term(deep, scope))
 
     def take(self, deep, scope):
+        if not self.parts:
+            return self.catch(deep, scope)
         name = self.new_name()
         body = self.term(deep, {**scope, name: "part"})
         return ("take", self.chance.choice(TAGS), name, self.kept(name, scope, body))
@@ -149,9 +153,9 @@ class Maker:
             ("set", ("name", "rounds"), rounds), ("let", "z", self.get(deep, scope), gone))), self.term(deep, scope))
 
 
-def random_term(seed, deep):
-    """A term with three cells around it, of which one counts rounds."""
-    maker = Maker(seed)
+def random_term(seed, deep, parts=True):
+    """A term with three cells around it, of which one counts rounds; without takes where no parts are asked for."""
+    maker = Maker(seed, parts)
     scope = {"input": "any", "held": "cell", "other": "cell", "rounds": "count"}
     body = maker.term(deep, scope)
     if seed % 4:
