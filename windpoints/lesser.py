@@ -8,6 +8,7 @@ from windpoints.worths import OPS, Pair, Part, Point, is_whole, op_worth, unchai
 
 TURNED_MOST = 200000
 
+# OPS and five more, written out: a value here is not made from another one.
 LESSER = {
     "plus": 2,
     "minus": 2,
