@@ -17,6 +17,7 @@ Wind frames of a row with their places in it, outer first.
 """
 
 from windpoints.machine import Machine
+from windpoints.winders import in_common
 from windpoints.worths import Part, Point
 
 
@@ -54,14 +55,8 @@ def next_id(machine):
     return machine.ids
 
 
-def in_common(one, two):
-    """Tell how many winders, from the outer ones on, two rows' lists of them have in common."""
-    many = 0
-    for (at, frame), (other_at, other) in zip(one, two):
-        if frame[1] != other[1]:
-            break
-        many += 1
-    return many
+def ids_of(winders):
+    return [frame[1] for at, frame in winders]
 
 
 def leap(machine, row, arrival):
@@ -69,7 +64,7 @@ def leap(machine, row, arrival):
     frames = machine.frames
     outs = frames.winders_of(frames.here())
     ins = frames.winders_of(row)
-    many = in_common(outs, ins)
+    many = in_common(ids_of(outs), ids_of(ins))
     if many < len(outs):
         leap_out(machine, row, arrival, outs[-1])
     elif many < len(ins):

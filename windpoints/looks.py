@@ -1,7 +1,7 @@
 """Looks: what can be told of a term ahead of its runs."""
 
 from windpoints.places import all_places
-from windpoints.terms import binders_of
+from windpoints.scopes import scopes_of
 
 # Which parts are in last place where their term is; of a do it is the last, however many there are.
 LAST_PARTS = {
@@ -36,49 +36,27 @@ def last_places(term):
     return told
 
 
-class Scope:
-    """What is around a place: to each name bound there the path of its catch (None of another binder),
-    and how long the path of the nearest fun or rec is (0 where there is none)."""
-
-    def __init__(self, catches, nearest):
-        self.catches = catches
-        self.nearest = nearest
-
-
-def inner_scope(place, scope):
-    """Tell the Scope of a term's last part, where all its names are bound."""
-    catch = place.path if place.word == "catch" else None
-    catches = dict(scope.catches)
-    for name in binders_of(place.term):
-        catches[name] = catch
-    nearest = len(place.path) if place.word in ("fun", "rec") else scope.nearest
-    return Scope(catches, nearest)
-
-
-def scopes_of(places):
-    """Tell the dict from the path of each of a term's Places to its Scope."""
-    scopes = {(): Scope({}, 0)}
+def functions_around(places):
+    """Tell the dict from each path to how long the path of the nearest fun or rec around it is, or 0."""
+    nearest = {(): 0}
     for place in places:
-        scope = scopes[place.path]
-        for part in place.parts[:-1]:
-            scopes[part.path] = scope
-        for part in place.parts[-1:]:
-            scopes[part.path] = inner_scope(place, scope)
-    return scopes
+        for part in place.parts:
+            nearest[part.path] = len(place.path) if place.word in ("fun", "rec") else nearest[place.path]
+    return nearest
 
 
 def name_bars(places):
     """Tell the dict from the path of each catch that its own name's places bar to the first of these."""
     scopes = scopes_of(places)
+    nearest = functions_around(places)
     gone_to = {place.parts[0].path: True for place in places if place.word == "go"}
     bars = {}
     for place in places:
-        if place.word == "name":
-            scope = scopes[place.path]
-            catch = scope.catches.get(place.term[1])
+        binder = scopes[place.path].get(place.term[1]) if place.word == "name" else None
+        if binder is not None and binder.word == "catch":
             # Both paths lead to this place, so the longer one is of the inner term.
-            if catch is not None and (place.path not in gone_to or scope.nearest > len(catch)):
-                bars.setdefault(catch, place.path)
+            if place.path not in gone_to or nearest[place.path] > len(binder.path):
+                bars.setdefault(binder.path, place.path)
     return bars
 
 
