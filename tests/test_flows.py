@@ -5,8 +5,8 @@ import unittest
 from tests.plain_flows import plain_flows
 from tests.random_terms import random_term
 from tests.reading import term
-from tests.samples import MAKERS, NO_TERMS, deep, good, kinds_with_parts, with_part
-from windpoints.errors import NoName, NoTerm
+from tests.refusals import Refusing
+from tests.samples import MAKERS, deep, good
 from windpoints.flows import flows, is_closed
 from windpoints.heap import HeapFrames
 from windpoints.leaping import Leaper
@@ -416,25 +416,10 @@ class IsClosed(Flows):
                 self.assertIs(is_closed(other, told), False)
 
 
-class Refusals(unittest.TestCase):
-    def assert_refused(self, error, thing, **fields):
-        for asked in (flows, lambda whole: is_closed(whole, {}), lambda whole: is_closed(whole, 5),
-                      lambda whole: is_closed(whole, {(): []})):
-            with self.subTest(thing=thing):
-                with self.assertRaises(error) as caught:
-                    asked(thing)
-                self.assertEqual(vars(caught.exception), fields)
-
-    def test_what_is_no_term(self):
-        for thing in NO_TERMS:
-            self.assert_refused(NoTerm, thing, at=())
-        for kind in kinds_with_parts():
-            for at in range(MAKERS[kind][0]):
-                self.assert_refused(NoTerm, with_part(kind, at, 5), at=(at,))
-
-    def test_what_nothing_binds(self):
-        self.assert_refused(NoName, ("name", "x"), at=(), name="x")
-        self.assert_refused(NoName, term("(do input (let x 1 x) x)"), at=(2,), name="x")
+class Refusals(Refusing, unittest.TestCase):
+    def asked(self):
+        return [flows, lambda whole: is_closed(whole, {}), lambda whole: is_closed(whole, 5),
+                lambda whole: is_closed(whole, {(): []})]
 
 
 def kind_is_told(worth, origins):

@@ -5,9 +5,7 @@ import unittest
 from tests.ends import MAKERS, Ends, gone_on, told
 from tests.random_terms import random_term
 from tests.reading import term
-from tests.samples import MAKERS as KINDS
-from tests.samples import NO_TERMS, deep, kinds_with_parts, with_part
-from windpoints.errors import NoName, NoTerm
+from tests.refusals import Refusing
 from windpoints.heap import HeapRun
 from windpoints.plain import run
 from windpoints.results import Result
@@ -25,35 +23,9 @@ def runners():
     return [run, *MAKERS.values()]
 
 
-class Refusals(unittest.TestCase):
-    def assert_refused(self, error, thing, **fields):
-        for maker in runners():
-            with self.subTest(maker=maker, thing=thing):
-                with self.assertRaises(error) as caught:
-                    maker(thing, None)
-                self.assertEqual(vars(caught.exception), fields)
-
-    def test_what_is_no_term(self):
-        for thing in NO_TERMS:
-            self.assert_refused(NoTerm, thing, at=())
-            self.assert_refused(NoTerm, ("say", ("do", (("num", 1), thing))), at=(0, 1))
-
-    def test_a_part_that_is_no_term_in_each_kind(self):
-        for kind in kinds_with_parts():
-            for at in range(KINDS[kind][0]):
-                self.assert_refused(NoTerm, with_part(kind, at, 5), at=(at,))
-
-    def test_a_name_that_is_neither_bound_nor_input(self):
-        self.assert_refused(NoName, ("name", "x"), at=(), name="x")
-        self.assert_refused(NoName, term("(do input (let x 1 x) x)"), at=(2,), name="x")
-        # It is refused ahead of all steps, also where it would never be begun.
-        self.assert_refused(NoName, term("(if yes (say 1) y)"), at=(2,), name="y")
-
-    def test_no_term_comes_ahead_of_no_name(self):
-        self.assert_refused(NoTerm, ("do", (("name", "x"), ("num", True))), at=(1,))
-
-    def test_deep_ones(self):
-        self.assert_refused(NoTerm, deep(300, 5), at=(1,) * 300)
+class Refusals(Refusing, unittest.TestCase):
+    def asked(self):
+        return [lambda whole, maker=maker: maker(whole, None) for maker in runners()]
 
 
 class Asking(Ends):

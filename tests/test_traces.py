@@ -4,8 +4,8 @@ import unittest
 
 from tests.random_terms import random_term
 from tests.reading import term
-from tests.samples import MAKERS, NO_TERMS, deep, good, kinds_with_parts, with_part
-from windpoints.errors import NoName, NoTerm
+from tests.refusals import Refusing
+from tests.samples import MAKERS, deep, good
 from windpoints.heap import HeapRun
 from windpoints.plain import MOST, run
 from windpoints.terms import part_at, paths
@@ -236,29 +236,13 @@ class Judging(Traces):
         self.assertEqual(thing, told)
 
 
-class Refusals(unittest.TestCase):
-    def assert_refused(self, error, thing, **fields):
-        for asked in (
+class Refusals(Refusing, unittest.TestCase):
+    def asked(self):
+        return [
             lambda whole: trace(whole, None), lambda whole: trace(whole, None, most=0),
             lambda whole: is_trace(whole, None, []), lambda whole: is_trace(whole, None, 5, most=0),
             lambda whole: is_trace(whole, None, None), lambda whole: first_wrong(whole, None, []),
-            lambda whole: first_wrong(whole, None, [], most=0),
-        ):
-            with self.subTest(thing=thing):
-                with self.assertRaises(error) as caught:
-                    asked(thing)
-                self.assertEqual(vars(caught.exception), fields)
-
-    def test_what_is_no_term(self):
-        for thing in NO_TERMS:
-            self.assert_refused(NoTerm, thing, at=())
-        for kind in kinds_with_parts():
-            for at in range(MAKERS[kind][0]):
-                self.assert_refused(NoTerm, with_part(kind, at, 5), at=(at,))
-
-    def test_what_nothing_binds(self):
-        self.assert_refused(NoName, ("name", "x"), at=(), name="x")
-        self.assert_refused(NoName, term("(do input (let x 1 x) x)"), at=(2,), name="x")
+            lambda whole: first_wrong(whole, None, [], most=0)]
 
 
 if __name__ == "__main__":

@@ -46,8 +46,7 @@ class Leaper(Machine):
 
     def back_to(self, frame):
         """Hand the worth that goes back to a frame that leaps look at."""
-        back = BACKS[frame[0]]
-        back(self, frame)
+        hand_back(self, frame)
 
 
 def next_id(machine):
@@ -208,3 +207,9 @@ BACKS = {
     "keep": back_to_keep,
     "leap": back_to_leap,
 }
+
+
+def hand_back(machine, frame):
+    """Do what a frame of one of these kinds does with the worth that goes back to it."""
+    back = BACKS[frame[0]]
+    back(machine, frame)

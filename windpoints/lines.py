@@ -1,11 +1,10 @@
 """Lines that show where they were spoilt: each with its place, its length and a check."""
 
 from windpoints.errors import NoText
-from windpoints.terms import FIRST_SIGN, LAST_SIGN
+from windpoints.terms import FIGURES, FIRST_SIGN, LAST_SIGN
 
 # A prime: so neither a changed sign nor two that changed places leave the check as it was.
 MODULUS = 999983
-FIGURES = "0123456789"
 # A first line that tells of more lines than this is none that was told.
 MOST_COUNT_FIGURES = 12
 

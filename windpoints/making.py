@@ -1,4 +1,4 @@
-"""How terms of the lesser language are put together. A text stands for the name of which it is the text."""
+"""How terms are put together. A text stands for the name of which it is the text."""
 
 
 def as_term(thing):

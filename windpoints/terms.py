@@ -7,6 +7,7 @@ calls: terms may lie deeper within one another than calls may.
 from windpoints.errors import NoName, NoPath, NoTerm
 from windpoints.worths import OPS, is_whole
 
+FIGURES = "0123456789"
 LETTERS = "abcdefghijklmnopqrstuvwxyz"
 NAME_SIGNS = "abcdefghijklmnopqrstuvwxyz0123456789"
 MOST_NAME_SIGNS = 12
