@@ -76,6 +76,44 @@ class Language(unittest.TestCase):
                 attributes.add(node.attr)
         self.assertEqual(methods & attributes, set())
 
+    def test_no_name_has_another_meaning(self):
+        for path, source in sources().items():
+            tree = ast.parse(source)
+            taken = {alias.name for node in tree.body if isinstance(node, ast.ImportFrom) for alias in node.names}
+            taken |= {node.name for node in tree.body if isinstance(node, ast.ClassDef)}
+            for node in ast.walk(tree):
+                stored = isinstance(node, ast.Name) and isinstance(node.ctx, ast.Store)
+                name = node.id if stored else node.arg if isinstance(node, ast.arg) else None
+                if name is not None:
+                    where = f"{path.name}:{node.lineno} {name}"
+                    self.assertNotIn(name, taken, where)
+                    self.assertFalse(hasattr(builtins, name), where)
+                    self.assertFalse(name.startswith("_"), where)
+
+    def test_imports_are_used(self):
+        for path, source in sources().items():
+            tree = ast.parse(source)
+            imported = {alias.name for node in tree.body if isinstance(node, ast.ImportFrom) for alias in node.names}
+            used = {node.id for node in ast.walk(tree) if isinstance(node, ast.Name)}
+            self.assertEqual(imported - used, set(), path.name)
+
+    def test_no_two_files_import_from_each_other(self):
+        imports = {
+            path.stem: {node.module.split(".")[1] for node in ast.parse(source).body if isinstance(node, ast.ImportFrom)}
+            for path, source in sources().items()}
+        for first in imports:
+            reached, waiting = set(), list(imports[first])
+            while waiting:
+                name = waiting.pop()
+                if name not in reached:
+                    reached.add(name)
+                    waiting.extend(imports[name])
+            self.assertNotIn(first, reached)
+
+    def test_no_generators(self):
+        for where, node in each_node():
+            self.assertNotIsInstance(node, (ast.GeneratorExp, ast.Yield, ast.YieldFrom), where)
+
     def test_constants(self):
         for where, node in each_node():
             if isinstance(node, ast.Constant):

@@ -30,10 +30,9 @@ class RowMachine(Leaper):
         self.frames.push(("row", name))
 
     def back_to(self, frame):
-        """Hand the worth that goes back to a frame, or end as the row whose outermost frame it is."""
+        """Hand the worth that goes back to a frame; outside a row's own there is none, so there the run ends."""
         if frame[0] == "row":
             self.keeps = frame[1]
-            self.end("worth", self.worth)
         else:
             hand_back(self, frame)
 

@@ -138,9 +138,7 @@ class Writer:
         while waiting:
             node = waiting[-1]
             unknown = [row for row in rows_within(node) if row not in self.lines]
-            if node in self.lines:
-                waiting.pop()
-            elif unknown:
+            if unknown:
                 waiting.extend(unknown)
             else:
                 waiting.pop()
